@@ -276,9 +276,10 @@ func TestSmallGrammars(t *testing.T) {
 	smallGrammars(check, 2)
 	smallGrammars(check, 2, 2)
 	smallGrammars(check, 2, 3)
+	smallGrammars(check, 2, 2, 3)
 	smallGrammars(check, 2, 3, 2)
 	smallGrammars(check, 2, 3, 3)
-	if count != 7+49+2*169+2*2*2197 {
+	if count != 7+49+2*169+3*2*2197 {
 		t.Errorf("%d small grammars", count)
 	}
 }
