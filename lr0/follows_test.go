@@ -309,7 +309,7 @@ func TestManyAutomata(t *testing.T) {
 	}
 }
 
-// smallGrammars are all closed grammars of one terminal, with productions of these nonterminals (by their numbers among these) and at most two symbols.
+// smallGrammars are all closed grammars of one terminal, with productions of these nonterminals (by their numbers among these) and at most two symbols, that start with the first one.
 func smallGrammars(each func(g api.Grammar), lefts ...int) {
 	g := api.Grammar{Terms: []api.Term{{}, {Name: "x"}}, Nons: []string{""}, Start: 3, Prods: make([]api.Prod, 1+len(lefts))}
 	g.Prods[0] = api.Prod{Left: 2, Right: []int{3}}
@@ -350,13 +350,17 @@ func rowsOf(n, added int) [][]int {
 
 func TestSmallGrammars(t *testing.T) {
 	count := 0
-	for _, lefts := range [][]int{{0}, {0, 0}, {0, 1}, {0, 0, 1}, {1, 0, 1}, {0, 1, 1}} {
+	for _, lefts := range [][]int{{0}, {0, 0}, {0, 0, 0}, {0, 1}, {1, 0}, {0, 0, 1}, {0, 1, 0}, {1, 0, 0}, {0, 1, 1}, {1, 0, 1}, {1, 1, 0}} {
 		smallGrammars(func(g api.Grammar) {
-			count++
-			wantAsSaid(t, g)
+			for i := range g.Nons[1:] {
+				g.Start = 3 + i
+				g.Prods[0].Right = []int{g.Start}
+				count++
+				wantAsSaid(t, g)
+			}
 		}, lefts...)
 	}
-	if count != 7+49+169+3*2197 {
+	if count != 7+49+343+2*(2*169+6*2197) {
 		t.Errorf("%d small grammars", count)
 	}
 }
