@@ -265,13 +265,13 @@ func rowsOf(n, added int) [][]int {
 
 func TestSmallGrammars(t *testing.T) {
 	count := 0
-	for _, lefts := range [][]int{{0}, {0, 0}, {0, 0, 0}, {0, 1}, {1, 0}, {0, 0, 1}, {0, 1, 0}, {0, 1, 1}} {
+	for _, lefts := range [][]int{{0}, {0, 0}, {0, 0, 0}, {0, 1}, {1, 0}, {0, 0, 1}, {0, 1, 0}, {1, 0, 0}, {0, 1, 1}, {1, 0, 1}, {1, 1, 0}} {
 		smallGrammars(func(g api.Grammar) {
 			count++
 			wantAsSaid(t, g)
 		}, lefts...)
 	}
-	if count != 7+49+343+2*(2*169+3*2197) {
+	if count != 7+49+343+2*(2*169+6*2197) {
 		t.Errorf("%d small grammars", count)
 	}
 }
