@@ -26,31 +26,49 @@ func inOrder(a, b api.Item) int {
 
 // closure are items and all that they bring along, in order, each once.
 //
-// A nonterminal brings its productions once, however many items stand ahead of it. Items that were given twice, or given and brought as well, are told apart only at the end, when they stand side by side.
+// A kernel may have many items, and stands in order already: what it brings along is laid in between rather than sorted with it.
 func closure(g api.Grammar, items ...api.Item) []api.Item {
-	all := append([]api.Item(nil), items...)
-	brought := make([]bool, symbols(g))
-	for i := 0; i < len(all); i++ {
-		sym := ahead(g, all[i])
-		if sym < len(g.Terms) || brought[sym] {
-			continue
+	given := append([]api.Item(nil), items...)
+	slices.SortFunc(given, inOrder)
+	brought := broughtBy(g, given...)
+	var all []api.Item
+	for prod, p := range g.Prods {
+		if brought[p.Left] {
+			all = append(all, api.Item{Prod: prod})
 		}
-		brought[sym] = true
-		all = append(all, begun(g, sym)...)
+		last := 0
+		for last < len(given) && given[last].Prod == prod {
+			last++
+		}
+		all = append(all, given[:last]...)
+		given = given[last:]
 	}
-	slices.SortFunc(all, inOrder)
 	return slices.Compact(all)
 }
 
-// begun are all productions of a nonterminal with Dot 0.
-func begun(g api.Grammar, non int) []api.Item {
-	var items []api.Item
-	for i, p := range g.Prods {
-		if p.Left == non {
-			items = append(items, api.Item{Prod: i})
+// broughtBy are, by symbol, whether it is a nonterminal whose productions items bring along. Each brings its own once, however many items stand ahead of it.
+func broughtBy(g api.Grammar, items ...api.Item) []bool {
+	brought := make([]bool, symbols(g))
+	var left []int // whose productions are still to be looked at
+	bring := func(sym int) {
+		if sym >= len(g.Terms) && !brought[sym] {
+			brought[sym] = true
+			left = append(left, sym)
 		}
 	}
-	return items
+	for _, item := range items {
+		bring(ahead(g, item))
+	}
+	for len(left) > 0 {
+		non := left[len(left)-1]
+		left = left[:len(left)-1]
+		for prod, p := range g.Prods {
+			if p.Left == non {
+				bring(ahead(g, api.Item{Prod: prod}))
+			}
+		}
+	}
+	return brought
 }
 
 // kernels are, by symbol, the kernels behind these items; of most symbols none.
